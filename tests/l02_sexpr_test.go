@@ -38,26 +38,28 @@ func copySExpr(x impl.SExpr) impl.SExpr {
 	return out
 }
 
-// sexprsOfSize returns every valid expression of the given size over two atoms.
-func sexprsOfSize(size int) []impl.SExpr {
+// sexprsOfSize returns every valid expression of the given size over the given atoms.
+func sexprsOfSize(atoms []string, size int) []impl.SExpr {
 	var all []impl.SExpr
 	if size == 1 {
-		all = append(all, atom("a"), atom("'b-1"))
+		for _, s := range atoms {
+			all = append(all, atom(s))
+		}
 	}
-	for _, elements := range sexprListsOfSize(size - 1) {
+	for _, elements := range sexprListsOfSize(atoms, size-1) {
 		all = append(all, impl.SExpr{List: elements})
 	}
 	return all
 }
 
-func sexprListsOfSize(size int) [][]impl.SExpr {
+func sexprListsOfSize(atoms []string, size int) [][]impl.SExpr {
 	if size == 0 {
 		return [][]impl.SExpr{nil}
 	}
 	var all [][]impl.SExpr
 	for first := 1; first <= size; first++ {
-		for _, x := range sexprsOfSize(first) {
-			for _, rest := range sexprListsOfSize(size - first) {
+		for _, x := range sexprsOfSize(atoms, first) {
+			for _, rest := range sexprListsOfSize(atoms, size-first) {
 				all = append(all, append([]impl.SExpr{x}, rest...))
 			}
 		}
@@ -396,7 +398,7 @@ func TestParseSExprInvertsFormatSExpr(t *testing.T) {
 	texts := map[string]bool{}
 	count := 0
 	for size := 1; size <= 6; size++ {
-		for _, x := range sexprsOfSize(size) {
+		for _, x := range sexprsOfSize([]string{"a", "'b-1"}, size) {
 			s := impl.FormatSExpr(x)
 			y, ok := impl.ParseSExpr(s)
 			if !ok || !impl.EqualSExpr(x, y) || !reflect.DeepEqual(copySExpr(x), copySExpr(y)) || impl.SExprSize(y) != size {
@@ -414,7 +416,7 @@ func TestParseSExprInvertsFormatSExpr(t *testing.T) {
 func TestEqualSExprOfSmallExpressions(t *testing.T) {
 	var all []impl.SExpr
 	for size := 1; size <= 4; size++ {
-		all = append(all, sexprsOfSize(size)...)
+		all = append(all, sexprsOfSize([]string{"a", "'b-1"}, size)...)
 	}
 	for i, x := range all {
 		for j, y := range all {

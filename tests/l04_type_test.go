@@ -184,9 +184,10 @@ func TestEverySmallType(t *testing.T) {
 	}
 }
 
-func TestValidAndInvalidTypes(t *testing.T) {
+// validTypes returns types of every kind, with each number of arguments that the kind permits.
+func validTypes() []impl.Type {
 	a, n := variable("a"), constructor("int")
-	valid := []impl.Type{
+	return []impl.Type{
 		a, variable("v0"), variable("abcdefgh"), variable("self"), variable("list"), n, constructor("bool"), constructor("unit"), constructor("a"),
 		{Kind: impl.TypeVar, Name: "a", Args: []impl.Type{}}, {Kind: impl.TypeConstructor, Name: "int", Args: []impl.Type{}},
 		{Kind: impl.TypeConstructor, Name: "bool", Args: []impl.Type{}}, {Kind: impl.TypeConstructor, Name: "unit", Args: []impl.Type{}},
@@ -196,13 +197,12 @@ func TestValidAndInvalidTypes(t *testing.T) {
 		constructor("pair", variable("a"), projection("add", variable("a"))), constructor("list", constructor("list", projection("add", a))),
 		constructor("inta", a), constructor("boo"), variable("bools"),
 	}
-	for _, x := range valid {
-		if !impl.IsValidType(x) {
-			t.Errorf("IsValidType(%v) = false", x)
-		}
-		checkType(t, x)
-	}
-	invalid := []impl.Type{
+}
+
+// invalidTypes returns types that are within the limits and break the rule of their kind.
+func invalidTypes() []impl.Type {
+	a, n := variable("a"), constructor("int")
+	return []impl.Type{
 		{}, {Name: "a"}, {Kind: 5, Name: "a"}, {Kind: -1, Name: "a"}, {Kind: 5, Name: "int"}, {Kind: math.MinInt, Name: "a"}, {Kind: math.MaxInt, Name: "a"},
 		{Kind: 1}, {Kind: 2}, {Kind: 3}, {Kind: 4}, {Kind: 0, Name: "list", Args: []impl.Type{a}}, {Kind: 5, Name: "add", Args: []impl.Type{a}},
 		variable("int"), variable("bool"), variable("assoc"), variable("'a"), variable("abcdefghi"), variable("A"), variable("1a"),
@@ -214,7 +214,16 @@ func TestValidAndInvalidTypes(t *testing.T) {
 		projection("int", a), projection("bool", a), projection("case", a), projection("", a), projection("int"),
 		dyn("int"), dyn("bool"), dyn("dyn"), dyn("abcdefghi"), typeWith(4, "show", 1, a), typeWith(4, "show", 3, n),
 	}
-	for _, x := range invalid {
+}
+
+func TestValidAndInvalidTypes(t *testing.T) {
+	for _, x := range validTypes() {
+		if !impl.IsValidType(x) {
+			t.Errorf("IsValidType(%v) = false", x)
+		}
+		checkType(t, x)
+	}
+	for _, x := range invalidTypes() {
 		for _, y := range insideValidTypes(x) {
 			if impl.IsValidType(y) {
 				t.Errorf("IsValidType(%v) = true", y)
