@@ -563,23 +563,31 @@ func typesWithRoom() (impl.Type, [][]impl.Type) {
 	return impl.Type{Kind: 2, Name: "f", Args: whole[:3]}, [][]impl.Type{whole, inner, empty}
 }
 
-func TestTypeFunctionsLeaveTheirArguments(t *testing.T) {
-	x, slots := typesWithRoom()
-	y, others := typesWithRoom()
+// unchanged returns a function that reports what has changed in the slots since.
+func unchanged(t *testing.T, slots [][]impl.Type) func() {
 	before := make([][]impl.Type, len(slots))
 	for i, slot := range slots {
 		before[i] = copyType(impl.Type{Args: slot}).Args
 	}
+	return func() {
+		t.Helper()
+		for i, slot := range slots {
+			if !reflect.DeepEqual(copyType(impl.Type{Args: slot}).Args, before[i]) {
+				t.Errorf("a function changed its argument: %v", slot)
+			}
+		}
+	}
+}
+
+func TestTypeFunctionsLeaveTheirArguments(t *testing.T) {
+	x, slots := typesWithRoom()
+	y, others := typesWithRoom()
+	defer unchanged(t, append(slots, others...))()
 	if !impl.IsValidType(x) || impl.TypeSize(x) != 7 || impl.TypeDepth(x) != 3 || !impl.HasProjection(x) || !impl.EqualType(x, y) || impl.EqualType(y, constructor("f", x, x, x)) {
 		t.Error("a function is wrong on a type with spare capacity")
 	}
 	if got := impl.TypeVariables(x); !slices.Equal(got, []string{"b", "a"}) || impl.CountTypeVariable(x, "b") != 2 || impl.CountTypeVariable(x, "spare") != 0 {
 		t.Errorf("TypeVariables or CountTypeVariable is wrong on a type with spare capacity: %q", got)
-	}
-	for i := range slots {
-		if !reflect.DeepEqual(copyType(impl.Type{Args: slots[i]}).Args, before[i]) || !reflect.DeepEqual(copyType(impl.Type{Args: others[i]}).Args, before[i]) {
-			t.Errorf("a function changed its argument: %v, %v", slots[i], others[i])
-		}
 	}
 }
 
