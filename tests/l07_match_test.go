@@ -582,3 +582,42 @@ func TestMatchWithoutBounds(t *testing.T) {
 		}
 	}
 }
+
+// Two types that have their parts in common, or that contain themselves, have only so many pairs of places that differ.
+func TestMatchOfTypesThatBothHaveNoBounds(t *testing.T) {
+	doubled := func(x, y impl.Type) impl.Type {
+		out := constructor("f", x, y)
+		for range 100 {
+			out = constructor("f", out, out)
+		}
+		return out
+	}
+	looped := func(x, y impl.Type) impl.Type {
+		args := make([]impl.Type, 3)
+		args[0], args[1], args[2] = x, y, impl.Type{Kind: 2, Name: "f", Args: args}
+		return args[2]
+	}
+	a, b, n, d := variable("a"), variable("b"), constructor("int"), dyn("show")
+	for i, endless := range []func(x, y impl.Type) impl.Type{doubled, looped} {
+		for j, c := range []struct {
+			p, x impl.Type
+			want []impl.Binding
+			ok   bool
+		}{
+			{endless(n, d), endless(n, d), nil, true}, {endless(n, d), endless(d, n), nil, false}, {endless(a, d), endless(n, d), []impl.Binding{bind("a", n)}, true}, {endless(b, a), endless(n, d), []impl.Binding{bind("b", n), bind("a", d)}, true}, {endless(a, a), endless(n, n), []impl.Binding{bind("a", n)}, true}, {endless(a, a), endless(n, d), nil, false},
+			{constructor("f", a, endless(n, a)), constructor("f", d, endless(n, d)), []impl.Binding{bind("a", d)}, true}, {constructor("f", a, endless(n, a)), constructor("f", d, endless(n, b)), nil, false}, {constructor("f", endless(n, a), a), constructor("f", endless(n, d), n), nil, false}, {endless(b, a), endless(a, b), []impl.Binding{bind("b", a), bind("a", b)}, true}, {endless(n, d), endless(n, a), nil, false},
+		} {
+			list, ok := impl.Match(c.p, c.x)
+			if ok != c.ok || !sameBindings(list, c.want) || impl.Matches(c.p, c.x) != c.ok {
+				t.Errorf("Match is wrong on types %d in case %d: %v, %v", i, j, list, ok)
+			}
+		}
+		// The values of the variable are types of that kind, which are compared but not returned.
+		if whole := endless(n, d); !impl.Matches(constructor("f", a, a), constructor("f", whole, endless(n, d))) || impl.Matches(constructor("f", a, a), constructor("f", whole, endless(n, n))) || impl.Matches(constructor("f", a, a, a), constructor("f", whole, whole, endless(d, d))) {
+			t.Errorf("Matches is wrong on a variable that occurs twice and types %d", i)
+		}
+	}
+	if !impl.Matches(looped(a, b), constructor("f", n, d, looped(n, d))) || impl.Matches(looped(a, b), constructor("f", n, d, looped(d, n))) || impl.Matches(looped(n, d), doubled(n, d)) {
+		t.Error("Matches is wrong on a type that contains itself and one that doesn't")
+	}
+}
